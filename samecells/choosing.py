@@ -1,6 +1,6 @@
 """Choices: what is done with each copy, whether that may be made, and the best one."""
 
-from samecells.copies import order_of
+from samecells.copies import has_new_cell, order_of
 
 IN_PLACE = 0
 ASIDE = 1
@@ -23,20 +23,21 @@ def choices_for(fitting):
     return choices
 
 
+def numbers_with(choice, number):
+    """The numbers of the copies, rising, of which the choice says this number."""
+    return [i for i in range(len(choice)) if choice[i] == number]
+
+
 def cells_with(copies, choice, number):
     """How many cells the copies have, together, of which the choice says this number."""
-    return sum([copies[i].length for i in range(len(copies)) if choice[i] == number])
-
-
-def done_in_place(choice):
-    return [i for i in range(len(choice)) if choice[i] == IN_PLACE]
+    return sum([copies[i].length for i in numbers_with(choice, number)])
 
 
 def may_be_made(copies, choice, room):
     """Whether a choice that leaves out each copy that doesn't fit may be made."""
     if cells_with(copies, choice, ASIDE) > room:
         return False
-    return order_of(copies, done_in_place(choice)) is not None
+    return order_of(copies, numbers_with(choice, IN_PLACE)) is not None
 
 
 def rank(copies, choice):
@@ -58,5 +59,7 @@ def best_choice(copies, fitting, room):
     return best
 
 
-def sent_count(copies, choice, new_count):
-    return new_count - cells_with(copies, choice, IN_PLACE) - cells_with(copies, choice, ASIDE)
+def sent_cells(copies, choice, new_count):
+    """The new cells, rising, that only copies left out have, or none."""
+    made = [copies[i] for i in range(len(copies)) if choice[i] != LEFT_OUT]
+    return [t for t in range(new_count) if not has_new_cell(made, t)]

@@ -20,6 +20,11 @@ def share_new_cell(copy, other):
     return overlap(copy.target, copy.length, other.target, other.length)
 
 
+def has_new_cell(copies, t):
+    """Whether one of the copies has the new cell t."""
+    return any([overlap(copy.target, copy.length, t, 1) for copy in copies])
+
+
 def has_to_be_ahead(copy, other):
     return overlap(copy.source, copy.length, other.target, other.length)
 

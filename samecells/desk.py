@@ -1,10 +1,10 @@
 """The calls on one object: read from a list of whole numbers, answered one behind another."""
 
-from samecells.choosing import ASIDE, best_choice, cells_with, sent_count
+from samecells.choosing import ASIDE, IN_PLACE, best_choice, cells_with, numbers_with, sent_cells
 from samecells.copies import MOST_COPIES, Copy, ahead_of, fits, order_of, share_new_cell
-from samecells.stretches import found_copies
+from samecells.doing import MOST_CELLS, careless_cells, done_cells
+from samecells.stretches import found_copies, longest
 
-MOST_CELLS = 16
 MOST_ROOM = 16
 MOST_HELD = 999
 
@@ -101,11 +101,15 @@ def drop(desk, arguments):
     return [len(desk.copies)]
 
 
+def as_told(copy):
+    return [copy.source, copy.target, copy.length]
+
+
 def found(desk, arguments):
     copies = found_copies(desk.old, desk.wanted)
     answer = [len(copies)]
     for copy in copies:
-        answer.extend([copy.source, copy.target, copy.length])
+        answer.extend(as_told(copy))
     return answer
 
 
@@ -128,43 +132,115 @@ def ahead(desk, arguments):
     return counted(ahead_of(desk.copies, i, list(range(len(desk.copies)))))
 
 
-def fitting(desk):
-    """Of each copy whether it fits."""
-    return [does_fit(desk, copy) for copy in desk.copies]
+def those_fitting(desk):
+    """The numbers of the copies that fit, rising."""
+    return [i for i in range(len(desk.copies)) if does_fit(desk, desk.copies[i])]
 
 
 def ring(desk, arguments):
-    fit = fitting(desk)
-    numbers = [i for i in range(len(fit)) if fit[i]]
-    return one_or_zero(order_of(desk.copies, numbers) is None)
+    return one_or_zero(order_of(desk.copies, those_fitting(desk)) is None)
+
+
+def best_with(desk, copies, room):
+    """The best choice, were these the copies and were there this room."""
+    return best_choice(copies, [does_fit(desk, copy) for copy in copies], room)
+
+
+def sent_with(desk, copies, room):
+    """How many cells would be sent, were these the copies and were there this room."""
+    return len(sent_cells(copies, best_with(desk, copies, room), len(desk.wanted)))
 
 
 def chosen(desk):
-    return best_choice(desk.copies, fitting(desk), desk.room)
+    return best_with(desk, desk.copies, desk.room)
 
 
 def best(desk, arguments):
     choice = chosen(desk)
-    sent = sent_count(desk.copies, choice, len(desk.wanted))
-    return [sent, cells_with(desk.copies, choice, ASIDE)]
+    cells = sent_cells(desk.copies, choice, len(desk.wanted))
+    return [len(cells), cells_with(desk.copies, choice, ASIDE)]
 
 
 def tell_choice(desk, arguments):
     return counted(chosen(desk))
 
 
-# By the call's number, from call 0 on; the calls behind these are not built.
+def order(desk, arguments):
+    return counted(order_of(desk.copies, numbers_with(chosen(desk), IN_PLACE)))
+
+
+def sent(desk, arguments):
+    return counted(sent_cells(desk.copies, chosen(desk), len(desk.wanted)))
+
+
+def done(desk, arguments):
+    return counted(done_cells(desk.old, desk.wanted, desk.copies, chosen(desk)))
+
+
+def careless(desk, arguments):
+    copies = [desk.copies[i] for i in those_fitting(desk)]
+    return counted(careless_cells(desk.old, desk.wanted, copies))
+
+
+def if_room(desk, arguments):
+    s = arguments[0]
+    if s > MOST_ROOM:
+        return [WRONG]
+    return [sent_with(desk, desk.copies, s)]
+
+
+def least_room(desk, arguments):
+    # With the most room all copies that fit may be kept aside, so the best choice leaves none of them out,
+    # and of the choices that leave none out it keeps the fewest cells aside.
+    choice = best_with(desk, desk.copies, MOST_ROOM)
+    return [cells_with(desk.copies, choice, ASIDE)]
+
+
+def without(desk, arguments):
+    i = arguments[0]
+    if i >= len(desk.copies):
+        return [NO_SUCH]
+    return [sent_with(desk, desk.copies[:i] + desk.copies[i + 1:], desk.room)]
+
+
+def put_room(desk, arguments):
+    s = arguments[0]
+    if s > MOST_ROOM:
+        return [WRONG]
+    was = desk.room
+    desk.room = s
+    return [was]
+
+
+def tell_longest(desk, arguments):
+    t = arguments[0]
+    if t >= len(desk.wanted):
+        return [NO_SUCH]
+    copy = longest(desk.old, desk.wanted, t)
+    return [copy.length, copy.source]
+
+
+def told(desk, arguments):
+    i = arguments[0]
+    if i >= len(desk.copies):
+        return [NO_SUCH]
+    return as_told(desk.copies[i])
+
+
+def rows(desk, arguments):
+    return counted(desk.old) + counted(desk.wanted)
+
+
+# By the call's number, from call 0 on.
 HANDLERS = (
-    begin, put_old, put_wanted, add_copy, drop, found, take,
-    tell_fits, ahead, ring, best, tell_choice,
+    begin, put_old, put_wanted, add_copy, drop, found, take, tell_fits, ahead, ring, best, tell_choice,
+    order, sent, done, careless, if_room, least_room, without, put_room, tell_longest, told, rows,
 )
 
 
 def answer_to(desk, number, arguments):
     if number != BEGIN and not desk.begun:
         return [NOT_BEGUN]
-    if number >= len(HANDLERS):
-        raise NotImplementedError(f"call {number} is not built")
     handler = HANDLERS[number]
     return handler(desk, arguments)
 

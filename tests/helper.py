@@ -1,5 +1,7 @@
 """What the tests share: calls by name, all that can be seen of an object, and a plain model of the document."""
 
+import copy
+import functools
 import itertools
 import random
 
@@ -10,7 +12,6 @@ NAMES = (
     "order", "sent", "done", "careless", "ifroom", "leastroom", "without", "room", "longest", "told", "rows",
 )
 ARITY = dict(zip(NAMES, (3, 2, 2, 3, 1, 0, 0, 1, 1, 0, 0, 0, 0, 0, 0, 0, 1, 0, 1, 1, 1, 1, 0)))
-BUILT = NAMES[:12]
 EDGES = (0, 1, 2, 15, 16, 17, 999, 1000, 4294967295)
 
 
@@ -54,10 +55,28 @@ def rows(old, wanted, room):
 
 def seen(calls):
     """All that the calls leave to be seen; each glance is a run of its own, so none disturbs another."""
-    glances = [[(name,)] for name in ("found", "ring", "best", "choice")]
-    glances.append([(name, i) for name in ("fits", "ahead") for i in range(8)])
+    glances = [[(name,)] for name in NAMES if ARITY[name] == 0 and name != "take"]
+    glances += [[(name, i) for i in range(8)] for name in ("fits", "ahead", "told", "without")]
+    glances += [[(name, i) for i in range(17)] for name in ("longest", "ifroom")]
     glances += [[(name, i, 0)] for name in ("old", "want") for i in range(17)]
+    glances.append([("room", 0)])
     return [run(*calls, *glance)[len(calls):] for glance in glances]
+
+
+def has_to_be_ahead(one, other):
+    """Whether the copy one has to be ahead of the copy other; both are f, t, n."""
+    return bool(set(range(one[0], one[0] + one[2])) & set(range(other[1], other[1] + other[2])))
+
+
+@functools.lru_cache(maxsize=None)
+def lined_up(copies):
+    """Of all the ways to line them up, the first that has each behind those that have to be ahead of it, or None."""
+    # To take, again and again, the free one of the least number gives the first of these lines.
+    for line in itertools.permutations(range(len(copies))):
+        pairs = itertools.combinations(line, 2)
+        if not any(has_to_be_ahead(copies[later], copies[earlier]) for earlier, later in pairs):
+            return line
+    return None
 
 
 class Model:
@@ -151,50 +170,133 @@ class Model:
     def fits(self, i):
         return [int(self.fit(i))] if i < len(self.copies) else [-2]
 
-    def has_to_be_ahead(self, i, j):
-        return i != j and bool(self.writes(j) & self.reads(i))
-
     def ahead(self, i):
         if i >= len(self.copies):
             return [-2]
-        them = [j for j in range(len(self.copies)) if self.has_to_be_ahead(j, i)]
+        them = [j for j, one in enumerate(self.copies) if j != i and has_to_be_ahead(one, self.copies[i])]
         return [len(them), *them]
 
-    def have_an_order(self, numbers):
-        """Whether one of all the ways to line them up keeps each behind those that have to be ahead of it."""
-        return any(
-            not any(self.has_to_be_ahead(line[k], line[j]) for k in range(len(line)) for j in range(k))
-            for line in itertools.permutations(numbers)
-        )
+    def those_fitting(self):
+        return [i for i in range(len(self.copies)) if self.fit(i)]
+
+    def line(self, numbers):
+        """These copies in their order, or None."""
+        line = lined_up(tuple(self.copies[i] for i in numbers))
+        return None if line is None else [numbers[k] for k in line]
 
     def ring(self):
-        return [int(not self.have_an_order([i for i in range(len(self.copies)) if self.fit(i)]))]
+        return [int(self.line(self.those_fitting()) is None)]
+
+    def said(self, choice, number):
+        return [i for i, this in enumerate(choice) if this == number]
 
     def may_be_made(self, choice):
         if any(number != 2 and not self.fit(i) for i, number in enumerate(choice)):
             return False
         if self.kept(choice) > self.space:
             return False
-        return self.have_an_order([i for i, number in enumerate(choice) if number == 0])
+        return self.line(self.said(choice, 0)) is not None
 
     def kept(self, choice):
-        return sum(len(self.reads(i)) for i, number in enumerate(choice) if number == 1)
+        return sum(len(self.reads(i)) for i in self.said(choice, 1))
 
-    def sent(self, choice):
+    def unmade(self, choice):
         made = [self.writes(i) for i, number in enumerate(choice) if number != 2]
-        return len(set(range(len(self.cells["want"]))).difference(*made))
+        return sorted(set(range(len(self.cells["want"]))).difference(*made))
 
     def searched(self):
         """All choices that may be made, the best one first."""
         choices = itertools.product((0, 1, 2), repeat=len(self.copies))
-        ranked = sorted((self.sent(choice), self.kept(choice), choice) for choice in choices)
+        ranked = sorted((len(self.unmade(choice)), self.kept(choice), choice) for choice in choices)
         return (row for row in ranked if self.may_be_made(row[2]))
 
     def best(self):
         return list(next(self.searched())[:2])
 
+    def chosen(self):
+        return next(self.searched())[2]
+
     def choice(self):
-        return [len(self.copies), *next(self.searched())[2]]
+        return [len(self.copies), *self.chosen()]
+
+    def order(self):
+        line = self.line(self.said(self.chosen(), 0))
+        return [len(line), *line]
+
+    def sent(self):
+        cells = self.unmade(self.chosen())
+        return [len(cells), *cells]
+
+    def at_first(self):
+        """What each cell holds, from 0 to 15."""
+        return dict(enumerate(self.cells["old"] + [0] * (16 - len(self.cells["old"]))))
+
+    def read(self, held, i):
+        """What each new cell of copy i is to hold, as it is read now."""
+        f, t, n = self.copies[i]
+        return {t + k: held[f + k] for k in range(n)}
+
+    def done_by(self, choice):
+        held = self.at_first()
+        aside = [self.read(held, i) for i in self.said(choice, 1)]
+        for i in self.line(self.said(choice, 0)):
+            held |= self.read(held, i)
+        for kept in aside:
+            held |= kept
+        held |= {t: self.cells["want"][t] for t in self.unmade(choice)}
+        return [held[cell] for cell in range(16)]
+
+    def done(self):
+        return [16, *self.done_by(self.chosen())]
+
+    def careless(self):
+        held = self.at_first()
+        for i in self.those_fitting():
+            held |= self.read(held, i)
+        had = set().union(*[self.writes(i) for i in self.those_fitting()])
+        cells = [t for t in sorted(had) if held[t] != self.cells["want"][t]]
+        return [len(cells), *cells]
+
+    def ifroom(self, s):
+        if s > 16:
+            return [-22]
+        other = copy.deepcopy(self)
+        other.space = s
+        return other.best()[:1]
+
+    def leastroom(self):
+        no_copy_has = self.unmade([0 if self.fit(i) else 2 for i in range(len(self.copies))])
+        return [next(s for s in range(17) if self.ifroom(s) == [len(no_copy_has)])]
+
+    def without(self, i):
+        if i >= len(self.copies):
+            return [-2]
+        other = copy.deepcopy(self)
+        other.drop(i)
+        return other.best()[:1]
+
+    def room(self, s):
+        if s > 16:
+            return [-22]
+        was = self.space
+        self.space = s
+        return [was]
+
+    def longest(self, t):
+        old, want = self.cells["old"], self.cells["want"]
+        if t >= len(want):
+            return [-2]
+        for n in range(len(want) - t, 0, -1):
+            for f in range(len(old) - n + 1):
+                if old[f:f + n] == want[t:t + n]:
+                    return [n, f]
+        return [0, 0]
+
+    def told(self, i):
+        return list(self.copies[i]) if i < len(self.copies) else [-2]
+
+    def rows(self):
+        return [len(self.cells["old"]), *self.cells["old"], len(self.cells["want"]), *self.cells["want"]]
 
 
 def modelled(calls):
@@ -205,3 +307,22 @@ def modelled(calls):
 def source(seed):
     """Chance that is the same each time."""
     return random.Random(seed)
+
+
+def drawn(chance):
+    """Calls for old and new cells, room, and copies in any order, of which most fit and many stand in rings."""
+    old = [chance.randrange(1, 4) for i in range(chance.randrange(2, 17))]
+    wanted = [chance.randrange(1, 4) for i in range(chance.choice((len(old), chance.randrange(2, 17))))]
+    cuts = sorted(chance.sample(range(1, len(wanted)), min(chance.randrange(1, 7), len(wanted) - 1)))
+    copies = []
+    for t, end in zip([0, *cuts], [*cuts, len(wanted)]):
+        n = end - t
+        if n <= len(old):
+            f = chance.randrange(len(old) - n + 1)
+            copies.append(("copy", f, t, n))
+            if chance.random() < 0.9:
+                wanted[t:end] = old[f:f + n]
+    chance.shuffle(copies)
+    if chance.random() < 0.3:
+        copies = copies[1:]
+    return [*rows(old, wanted, chance.choice((0, 1, 2, 3, 4, 16))), *copies]

@@ -1,6 +1,6 @@
 import unittest
 
-from helper import Model, last, rows, run, source
+from helper import drawn, last, modelled, rows, run, source
 
 
 def asked(old, wanted, room, copies):
@@ -124,34 +124,17 @@ class OfLikeOnes(unittest.TestCase):
 
 
 class AgainstAPlainSearch(unittest.TestCase):
-    def one(self, chance, length):
-        """Copies that cut all new cells, most of which fit, in any order."""
-        old = [chance.randrange(1, 4) for i in range(length)]
-        wanted = [chance.randrange(1, 4) for i in range(length)]
-        cuts = sorted(chance.sample(range(1, length), min(chance.randrange(1, 7), length - 1)))
-        copies = []
-        for t, end in zip([0, *cuts], [*cuts, length]):
-            f = chance.randrange(length - (end - t) + 1)
-            copies.append((f, t, end - t))
-            if chance.random() < 0.9:
-                wanted[t:end] = old[f:f + end - t]
-        chance.shuffle(copies)
-        return old, wanted, chance.choice((0, 1, 2, 3, 4, 16)), copies
-
-    def check(self, old, wanted, room, copies):
-        model = Model()
-        model.begin(len(old), len(wanted), room)
-        model.cells = {"old": old, "want": wanted}
-        model.copies = copies
-        expected = [model.ring(), model.best(), model.choice()]
-        self.assertEqual(asked(old, wanted, room, copies), expected, (old, wanted, room, copies))
-        return expected
+    def check(self, calls):
+        asked = [("ring",), ("best",), ("choice",)]
+        expected = modelled([*calls, *asked])
+        self.assertEqual(run(*calls, *asked), expected, calls)
+        return expected[-3:]
 
     def test_many(self):
         chance = source("choices")
         rings = kept = left_out = 0
         for turn in range(400):
-            ring, best, choice = self.check(*self.one(chance, chance.randrange(2, 17)))
+            ring, best, choice = self.check(drawn(chance))
             rings += ring[0]
             kept += best[1] > 0
             left_out += 2 in choice[1:]
@@ -162,8 +145,8 @@ class AgainstAPlainSearch(unittest.TestCase):
         for room in (0, 1, 2):
             for place in places:
                 old = [1, 2, 3, 4]
-                copies = [(f, t, 1) for t, f in enumerate(place)]
-                self.check(old, [old[f] for f in place], room, copies)
+                copies = [("copy", f, t, 1) for t, f in enumerate(place)]
+                self.check([*rows(old, [old[f] for f in place], room), *copies])
 
 
 if __name__ == "__main__":

@@ -141,12 +141,5 @@ class Ahead(unittest.TestCase):
         self.assertEqual(last(("begin", 2, 2, 0), ("ahead", 0)), [-2])
 
 
-class AskingChangesNothing(unittest.TestCase):
-    def test_each_that_asks(self):
-        before = [*rows([1, 2, 3, 4], [3, 4, 1, 2], 1), ("copy", 0, 2, 2), ("copy", 2, 0, 2)]
-        for asked in (("found",), ("fits", 0), ("fits", 2), ("ahead", 1), ("ahead", 9), ("ring",), ("best",), ("choice",)):
-            self.assertEqual(seen([*before, asked]), seen(before), asked)
-
-
 if __name__ == "__main__":
     unittest.main()

@@ -6,11 +6,13 @@ import unittest
 
 import samecells
 import samecells.desk
-from helper import ARITY, BUILT, EDGES, flat, modelled, rows, run, source, split
+from helper import ARITY, EDGES, NAMES, drawn, flat, modelled, rows, run, source, split
 
 CALLS = flat([
     *rows([1, 2, 3, 4], [3, 4, 1, 2], 2), ("take",), ("found",), ("ahead", 0), ("ring",), ("best",), ("choice",),
-    ("drop", 1), ("copy", 0, 2, 2), ("copy", 0, 2, 2), ("fits", 1), ("begin", 0, 0, 0), ("old", 9, 9),
+    ("order",), ("sent",), ("done",), ("careless",), ("ifroom", 0), ("leastroom",), ("without", 1), ("room", 1),
+    ("longest", 1), ("told", 1), ("rows",), ("drop", 1), ("copy", 0, 2, 2), ("copy", 0, 2, 2), ("fits", 1),
+    ("begin", 0, 0, 0), ("old", 9, 9), ("ifroom", 17), ("without", 7), ("room", 17), ("longest", 16), ("told", 7),
 ])
 
 
@@ -99,13 +101,14 @@ class AgainstTheModel(unittest.TestCase):
 
     def test_the_edges_wherever_a_number_is_handed_in(self):
         before = [*rows([1, 2, 3, 4], [3, 4, 1, 2], 2), ("copy", 0, 2, 1), ("copy", 2, 0, 2)]
-        for name in BUILT:
+        behind = [("rows",), ("told", 0), ("told", 1), ("found",), ("ring",), ("choice",), ("done",), ("room", 0)]
+        for name in NAMES:
             for place in range(ARITY[name]):
-                for usual in (0, 1, 3, 16):
+                for usual in (0, 1, 3, 16) if ARITY[name] > 1 else (0,):
                     for edge in EDGES:
                         numbers = [usual] * ARITY[name]
                         numbers[place] = edge
-                        self.check([*before, (name, *numbers), ("found",), ("ring",), ("best",), ("choice",)])
+                        self.check([*before, (name, *numbers), *behind])
 
     def call(self, chance, name):
         numbers = [chance.choice((0, 1, 2, 3, chance.randrange(18))) for i in range(ARITY[name])]
@@ -120,11 +123,25 @@ class AgainstTheModel(unittest.TestCase):
             cells = chance.choice((4, 8, 16))
             calls += [("begin", cells, chance.choice((cells, 5, 16)), chance.randrange(4))]
             calls += [(chance.choice(("old", "want")), chance.randrange(cells), chance.randrange(3)) for i in range(20)]
-            names = BUILT[1:] + ("copy",) * 12
+            names = NAMES[1:] + ("copy",) * 16
             calls += [self.call(chance, chance.choice(names)) for i in range(28)]
             calls += [("begin", 1, 1, 1)] if chance.random() < 0.1 else []
-            calls += [("ring",), ("best",), ("choice",), ("found",)]
+            calls += [("ring",), ("best",), ("choice",), ("found",), ("rows",)]
             self.check(calls)
+
+    def test_many_lists_of_calls_on_copies_that_fit(self):
+        chance = source("fitting copies")
+        for turn in range(200):
+            calls = drawn(chance)
+            calls += [self.call(chance, chance.choice(NAMES[1:])) for i in range(18)]
+            self.check(calls)
+
+    def test_all_that_is_asked_of_copies_that_fit(self):
+        chance = source("asked")
+        for turn in range(150):
+            asked = [(name, *[chance.randrange(8)] * ARITY[name]) for name in NAMES[7:]]
+            chance.shuffle(asked)
+            self.check([*drawn(chance), *asked])
 
 
 if __name__ == "__main__":
